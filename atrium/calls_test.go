@@ -58,9 +58,7 @@ func TestNoPanic(t *testing.T) {
 		if s, e := atrium.Encode(c); e != api.OK && s != "" {
 			t.Errorf("P1: Encode with the error %d: %q", e, s)
 		}
-		if l, _, _, e := atrium.Check(c); e != api.OK && len(l) != 0 {
-			t.Errorf("P1: Check with the error %d: %v", e, l)
-		}
+		checkedAs(t, c)
 	}
 	for _, s := range oddBytes() {
 		if c, e := atrium.Decode(s); e != api.OK && !reflect.DeepEqual(c, api.Class{}) {
