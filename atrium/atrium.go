@@ -4,6 +4,7 @@ package atrium
 import (
 	"atrium/api"
 	"atrium/check"
+	"atrium/machine"
 	"atrium/wire"
 )
 
@@ -29,7 +30,15 @@ func Check(c api.Class) ([]api.Below, int, int, api.Errno) {
 }
 
 // Run runs a script (P6).
-func Run(s api.Script) (api.Result, api.Errno) { return api.Result{}, api.OK }
+func Run(s api.Script) (api.Result, api.Errno) {
+	if !machine.IsScript(s) {
+		return api.Result{}, api.ErrScript
+	}
+	calls := machine.Calls{Decode: Decode, Check: Check}
+	r, why := caught(func() api.Result { return machine.Run(s, calls) })
+	_, e := told(why)
+	return r, e
+}
 
 // caught does some work that may be given up on deep inside: why is what it was
 // given up on with, or nil.

@@ -22,6 +22,15 @@ const (
 	Deep      = "Deep"
 )
 
+// Names answers all of them, each behind the one above it.
+func Names() []string {
+	return []string{
+		Object, Throwable, Error,
+		NoClass, BadForm, Circular, BadClass, NoField, NoMethod, BadInit,
+		Arith, NullRef, BadCast, Bounds, BadSize, Heap, Deep,
+	}
+}
+
 // Super answers the class above one that is there: "" above Object.
 func Super(class string) (super string, there bool) {
 	switch class {

@@ -27,6 +27,24 @@ func TestSuper(t *testing.T) {
 	}
 }
 
+// TestNames: all of them, each once, behind the one above it.
+func TestNames(t *testing.T) {
+	seen := map[string]bool{"": true}
+	for _, name := range base.Names() {
+		if super, there := base.Super(name); !there || seen[name] || !seen[super] {
+			t.Errorf("P7: %s is there: %t, twice: %t, %q ahead of it: %t", name, there, seen[name], super, seen[super])
+		}
+		seen[name] = true
+	}
+	if want := len(errors()) + 3; len(base.Names()) != want {
+		t.Errorf("P7: %d names, want %d", len(base.Names()), want)
+	}
+	base.Names()[0] = "changed"
+	if base.Names()[0] != "Object" {
+		t.Error("P2: what was written into an answer is there in the next one")
+	}
+}
+
 func TestIsBelow(t *testing.T) {
 	above := map[string][]string{"Object": nil, "Throwable": {"Object"}, "Error": {"Throwable", "Object"}}
 	for _, name := range errors() {

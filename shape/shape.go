@@ -42,13 +42,13 @@ func mustBeMethods(methods []api.Method) {
 	for i, m := range methods {
 		mustBeMethod(m)
 		for _, ahead := range methods[:i] {
-			Must(!haveOneSignature(ahead, m))
+			Must(!HaveOneSignature(ahead, m))
 		}
 	}
 }
 
-// haveOneSignature leaves aside whether they are static: that is no part of a signature.
-func haveOneSignature(a, b api.Method) bool {
+// HaveOneSignature leaves aside whether they are static: that is no part of a signature.
+func HaveOneSignature(a, b api.Method) bool {
 	return a.Name == b.Name && a.Result == b.Result && slices.Equal(a.Params, b.Params)
 }
 

@@ -62,3 +62,26 @@ func TestOperandOf(t *testing.T) {
 		}
 	}
 }
+
+// TestHaveOneSignature: the name, the parameters and what it gives, nothing else.
+func TestHaveOneSignature(t *testing.T) {
+	number, row := api.Type{Kind: api.Int}, api.Type{Kind: api.Ints}
+	m := api.Method{Name: "f", Params: []api.Type{number, row}, Result: row}
+	for why, c := range map[string]struct {
+		other api.Method
+		want  bool
+	}{
+		"itself":               {m, true},
+		"static":               {api.Method{Name: "f", Static: true, Params: []api.Type{number, row}, Result: row, Locals: 3, Stack: 4}, true},
+		"another name":         {api.Method{Name: "F", Params: []api.Type{number, row}, Result: row}, false},
+		"another result":       {api.Method{Name: "f", Params: []api.Type{number, row}, Result: number}, false},
+		"nothing given":        {api.Method{Name: "f", Params: []api.Type{number, row}}, false},
+		"fewer parameters":     {api.Method{Name: "f", Params: []api.Type{number}, Result: row}, false},
+		"the other way round":  {api.Method{Name: "f", Params: []api.Type{row, number}, Result: row}, false},
+		"an Object of a class": {api.Method{Name: "f", Params: []api.Type{number, {Kind: api.Object, Class: "A"}}, Result: row}, false},
+	} {
+		if shape.HaveOneSignature(m, c.other) != c.want || shape.HaveOneSignature(c.other, m) != c.want {
+			t.Errorf("P7: %s: one signature: %t, want %t", why, !c.want, c.want)
+		}
+	}
+}
