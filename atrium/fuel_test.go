@@ -99,7 +99,7 @@ func moreFuel(t *testing.T, s api.Script) {
 	s.Fuel = api.MaxFuel
 	whole, e := atrium.Run(s)
 	if e != api.OK {
-		t.Fatalf("P12: Run: the error %d of %v", e, s)
+		t.Fatalf("P12: Run: the error %d of %#v", e, s)
 	}
 	had := []api.Event{}
 	for fuel := range min(whole.Done, 60) {

@@ -25,7 +25,7 @@ func TestAnyScript(t *testing.T) {
 	for _, s := range someScripts() {
 		r, e := atrium.Run(s)
 		if e != api.OK {
-			t.Fatalf("P12: Run: the error %d of %v", e, s)
+			t.Fatalf("P12: Run: the error %d of %#v", e, s)
 		}
 		inOrder(t, s, r)
 		twin, _ := atrium.Run(s)
@@ -128,7 +128,7 @@ func TestRunWritesNothing(t *testing.T) {
 		given, twin := roomy(s), roomy(s)
 		atrium.Run(given)
 		if !reflect.DeepEqual(withSpare(given), withSpare(twin)) {
-			t.Errorf("P2: the script was written into: %v", s)
+			t.Errorf("P2: the script was written into: %#v", s)
 		}
 	}
 }
@@ -175,7 +175,7 @@ func FuzzRun(f *testing.F) {
 			return
 		}
 		if bounds := heap >= 0 && heap <= api.MaxHeap && depth > 0 && depth <= api.MaxDepth; bounds || e != api.ErrScript || !reflect.DeepEqual(r, api.Result{}) {
-			t.Errorf("P6: Run = %v, %d of %v", r, e, s)
+			t.Errorf("P6: Run = %v, %d of %#v", r, e, s)
 		}
 	})
 }

@@ -13,8 +13,7 @@ type standing int
 
 const (
 	unstarted standing = iota
-	starting
-	started
+	up                 // it is starting, or has started: nobody asks which
 	failed
 )
 

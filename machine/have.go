@@ -12,7 +12,7 @@ import (
 func (m *machine) haveBase() {
 	for _, name := range base.Names() {
 		super, _ := base.Super(name)
-		m.names[name] = foundClass{&class{name: name, super: m.there(super), standing: started}}
+		m.names[name] = foundClass{&class{name: name, super: m.there(super), standing: up}}
 	}
 }
 

@@ -192,7 +192,7 @@ func invoke(m *machine, f *frame, named *method) *object {
 func goBack(m *machine, f *frame, _ int) *object {
 	m.leave()
 	if f.starts != nil {
-		m.endStart(f.starts)
+		m.tell(api.Ended, f.starts.name)
 	}
 	return nil
 }

@@ -6,34 +6,29 @@ import (
 )
 
 // start brings a class nearer to having started. It is ready when there is
-// nothing left to be done for that, or it has thrown; else the start of a class
-// is under way, behind which it is to be asked again.
+// nothing left to be done for that, or it has thrown; else whoever needs the class
+// asks anew, behind the start that is under way now, if there is one.
 func (m *machine) start(c *class) (thrown *object, ready bool) {
-	for !c.isUp() {
-		next := c.nextToStart()
-		if c.standing == failed || next.standing == failed {
-			return m.fault(base.NoClass), true
-		}
-		if !m.isSound(next) {
-			next.standing = failed
-			return m.fault(base.BadClass), true
-		}
-		if thrown, ready = m.startOne(next); thrown != nil || !ready {
-			return thrown, ready
-		}
+	if c.standing == up {
+		return nil, true
 	}
-	return nil, true
-}
-
-func (c *class) isUp() bool {
-	return c.standing == starting || c.standing == started
+	next := c.nextToStart()
+	switch {
+	case next.standing == failed: // the class itself, or one above it
+		return m.fault(base.NoClass), true
+	case !m.isSound(next):
+		next.standing = failed
+		return m.fault(base.BadClass), true
+	}
+	thrown = m.startOne(next)
+	return thrown, thrown != nil
 }
 
 // nextToStart is the uppermost that is not up: the class itself is not.
 func (c *class) nextToStart() *class {
 	next := c
 	for above := range c.upward() {
-		if !above.isUp() {
+		if above.standing != up {
 			next = above
 		}
 	}
@@ -59,25 +54,20 @@ func (m *machine) isSound(c *class) bool {
 	return true
 }
 
-func (m *machine) startOne(c *class) (thrown *object, ready bool) {
-	c.standing = starting
+func (m *machine) startOne(c *class) (thrown *object) {
+	c.standing = up
 	m.tell(api.Started, c.name)
 	start := c.plainMethod("start")
 	switch {
 	case start == nil:
-		m.endStart(c)
-		return nil, true
+		m.tell(api.Ended, c.name)
+		return nil
 	case m.isFull():
 		m.failStart(c)
-		return m.fault(base.Deep), true
+		return m.fault(base.Deep)
 	}
 	m.begin(start, nil).starts = c
-	return nil, false
-}
-
-func (m *machine) endStart(c *class) {
-	c.standing = started
-	m.tell(api.Ended, c.name)
+	return nil
 }
 
 func (m *machine) failStart(c *class) {
